@@ -1,0 +1,1 @@
+"""Plans of work that may fail: see README.md."""

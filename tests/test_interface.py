@@ -1,0 +1,46 @@
+"""Tests of the interface: every name of the modules that are there, in its file, with its arguments."""
+
+import importlib
+import inspect
+import unittest
+
+FUNCTIONS = {
+    "rows": {
+        "is_fraction": "value", "fraction": "top bottom", "plus": "one other", "minus": "one other",
+        "times": "one other", "over": "one other", "is_less": "one other",
+    },
+    "tasks": {
+        "is_task": "value", "is_tasks": "value", "success": "tasks name", "is_sure": "tasks name",
+        "last_end": "tasks name", "with_task": "tasks name task",
+    },
+    "plans": {
+        "is_plan": "tasks value", "fault_of": "tasks value", "names_in": "tasks plan", "task_paths": "tasks plan",
+        "name_at": "tasks plan path", "size": "tasks plan", "span": "tasks plan",
+    },
+}
+
+METHODS = {"moved": "self ticks", "cut": "self tick", "at": "self tick", "up_to": "self tick", "total": "self",
+           "pairs": "self", "__init__": "self pairs"}
+
+OPERATORS = ["__add__", "__mul__", "__eq__", "__len__", "__contains__"]
+
+
+class InterfaceTest(unittest.TestCase):
+    def test_functions(self):
+        for name, functions in FUNCTIONS.items():
+            module = importlib.import_module(f"prepaidplans.{name}")
+            for function, names in functions.items():
+                one = getattr(module, function)
+                self.assertEqual(one.__module__, module.__name__)
+                self.assertEqual(list(inspect.signature(one).parameters), names.split())
+
+    def test_row(self):
+        rows = importlib.import_module("prepaidplans.rows")
+        self.assertEqual(rows.Row.__module__, "prepaidplans.rows")
+        for method, names in METHODS.items():
+            self.assertEqual(list(inspect.signature(vars(rows.Row)[method]).parameters), names.split())
+        self.assertEqual([name for name in OPERATORS if name not in vars(rows.Row)], [])
+
+
+if __name__ == "__main__":
+    unittest.main()
