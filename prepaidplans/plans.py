@@ -60,7 +60,7 @@ def name_at(tasks, plan, path):
     """Return the name of the task at a task path."""
     check_plan(tasks, plan)
     names = {one: name for one, name in named_paths(plan)}
-    if not _is_path(path) or path not in names:
+    if not is_path(path) or path not in names:
         raise InvalidPath("no task of the plan has this path")
     return names[path]
 
@@ -120,6 +120,11 @@ def named_paths(plan):
     return [(step + path, name) for step, part in all_steps_of(plan) for path, name in named_paths(part)]
 
 
+def is_path(value):
+    """Return whether any value has the form of a path."""
+    return isinstance(value, tuple) and all([is_whole(index) for index in value])
+
+
 def _has_form(tasks, value):
     if not isinstance(value, tuple) or len(value) < 2 or not isinstance(value[0], str):
         return False
@@ -137,10 +142,6 @@ def _has_numbers(value):
     if len(value) != 1 + len(bounds) + plans:
         return False
     return all([is_between(number, low, high) for number, (low, high) in zip(value[1:], bounds)])
-
-
-def _is_path(value):
-    return isinstance(value, tuple) and all([is_whole(index) for index in value])
 
 
 def _size(plan):

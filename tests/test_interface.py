@@ -17,6 +17,22 @@ FUNCTIONS = {
         "is_plan": "tasks value", "fault_of": "tasks value", "names_in": "tasks plan", "task_paths": "tasks plan",
         "name_at": "tasks plan path", "size": "tasks plan", "span": "tasks plan",
     },
+    "texts": {
+        "format_plan": "tasks plan", "parse_plan": "tasks text", "format_tasks": "tasks", "parse_tasks": "text",
+    },
+    "courses": {
+        "course_of": "tasks plan fates", "is_course": "tasks plan value", "end_of": "tasks plan course",
+        "share_of": "tasks plan course", "all_courses": "tasks plan", "count_courses": "tasks plan",
+    },
+    "accounts": {
+        "account": "tasks plan course", "money_of": "tasks plan course", "undone": "tasks plan course",
+        "standing": "tasks plan course", "kept": "tasks plan course",
+    },
+    "means": {
+        "rows_of": "tasks plan", "chance": "tasks plan", "mean_end": "tasks plan", "mean_money": "tasks plan",
+        "mean_lost": "tasks plan", "mean_begins": "tasks plan", "mean_undos": "tasks plan",
+        "measured": "tasks plan weights",
+    },
 }
 
 METHODS = {"moved": "self ticks", "cut": "self tick", "at": "self tick", "up_to": "self tick", "total": "self",

@@ -1,4 +1,7 @@
-"""Values that several tests share; no tests themselves."""
+"""Values and checks that several tests share; no tests themselves."""
+
+from oracle import paths_of
+from prepaidplans.errors import InvalidPlan, InvalidTasks, TooLarge
 
 
 class Odd:
@@ -44,3 +47,48 @@ def tasks_example():
         "b": (1, 3, [(1, "done", (3, 4)), (3, "failed", (1, 4))]),
         "c": (2, None, [(1, "done", (1, 1))]),
     }
+
+# Tasks with every end from tick 1 to 4, so that any fate up to there can be told; d cannot be undone.
+FREE_ENDS = [(tick, word, (1, 8)) for tick in (1, 2, 3, 4) for word in ("done", "failed")]
+FREE = {"a": (1, 10, FREE_ENDS), "b": (2, 20, FREE_ENDS), "c": (4, 40, FREE_ENDS), "d": (8, None, FREE_ENDS)}
+A, B, C, D = ("task", "a"), ("task", "b"), ("task", "c"), ("task", "d")
+
+# Of size 400 and 401, and of span 400 and 401, with tasks as in large_tasks().
+SIZE_400 = ("again", 19, 0, ("order", [("task", "a")] * 20))
+SIZE_401 = ("again", 20, 0, ("order", [("task", "a")] * 19))
+SPAN_400 = ("later", 10, ("order", [("task", "b")] * 13))
+SPAN_401 = ("later", 11, ("order", [("task", "b")] * 13))
+SIZE_421_AND_SPAN = ("again", 20, 100, ("order", [("task", "b")] * 20))
+
+
+def large_tasks():
+    """Return new tasks: a takes 1 tick, and b takes 30."""
+    return {"a": sure(), "b": sure(tick=30)}
+
+
+def fates_of(plan, told):
+    """Return fates for the task paths of a plan, ascending, from words such as "d2 f3"."""
+    words = {"d": "done", "f": "failed"}
+    paths = sorted(paths_of(plan))
+    assert len(paths) == len(told.split()), (plan, told)
+    return {path: (int(word[1:]), words[word[0]]) for path, word in zip(paths, told.split())}
+
+
+def check_first_errors(test, call):
+    """Test that call(tasks, plan) raises the errors of tasks and of plans, in their order, ahead of all others."""
+    wrong = {"b": 1, "a": (1, 1, [(1, "done", (1, 1))]), "c": None}
+    for tasks, name in [(None, None), ({}, None), ([], None), ({"A": 1}, None), (wrong, "b")]:
+        for plan in (A, None, SIZE_401, ("order", [("task", "A")])):
+            with test.assertRaises(InvalidTasks, msg=repr(tasks)) as caught:
+                call(tasks, plan)
+            test.assertEqual(caught.exception.name, name)
+    two = ("order", [("task", "a"), ("keep", 1)])
+    for plan, path in [(None, ()), ("a", ()), (["task", "a"], ()), (two, (1,)), (("later", True, A), ())]:
+        for tasks in (large_tasks(), FREE):
+            with test.assertRaises(InvalidPlan, msg=repr(plan)) as caught:
+                call(tasks, plan)
+            test.assertEqual(caught.exception.path, path)
+    for plan, number in [(SIZE_401, 401), (SPAN_401, 401), (SIZE_421_AND_SPAN, 421)]:
+        with test.assertRaises(TooLarge, msg=repr(plan)) as caught:
+            call(large_tasks(), plan)
+        test.assertEqual(caught.exception.number, number)

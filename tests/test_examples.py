@@ -1,0 +1,71 @@
+"""Tests of the examples of the document, as they stand there: [21], [23], [24], [25], [29], and of [34] those of means."""
+
+import doctest
+import unittest
+
+from prepaidplans.errors import InvalidText
+from prepaidplans.texts import parse_plan
+
+EXAMPLES = [
+    r"""
+>>> from prepaidplans.rows import Row, over, plus
+>>> row = Row([(1, (1, 2)), (3, (1, 4))])
+>>> [(row * row).pairs(), (row + row).cut(2).pairs(), row.up_to(2), plus((1, 6), (1, 3)), over((1, 2), (-3, 4))]
+[[(2, (1, 4)), (4, (1, 4)), (6, (1, 16))], [(1, (1, 1))], (1, 2), (1, 2), (-2, 3)]
+""",
+    r"""
+>>> from prepaidplans.plans import fault_of, size, span, task_paths
+>>> tasks = {"a": (4, 2, [(2, "done", (1, 1))])}
+>>> plan = ("order", [("task", "a"), ("again", 2, 1, ("keep", ("task", "a")))])
+>>> [task_paths(tasks, plan), size(tasks, plan), span(tasks, plan), fault_of(tasks, ("both", [plan, ("keep", ("task", "d"))]))]
+[[(0,), (1, 0), (1, 1)], 7, 7, (1,)]
+""",
+    r"""
+>>> tasks = {"a": (4, 2, [(1, "failed", (1, 2)), (2, "done", (1, 2))]), "b": (1, 3, [(1, "done", (3, 4)), (3, "failed", (1, 4))]), "c": (2, None, [(1, "done", (1, 1))])}
+>>> from prepaidplans.texts import format_plan, format_tasks, parse_plan
+>>> plan = ("watch", 2, ("task", "c"), ("order", [("task", "a"), ("task", "b")]))
+>>> [format_plan(tasks, plan), parse_plan(tasks, "back 5 c"), format_tasks(tasks)]
+['watch 2 c order ( a b )', ('back', 5, ('task', 'c')), 'a 4 2 -1:1/2 +2:1/2\nb 1 3 +1:3/4 -3:1/4\nc 2 - +1:1/1']
+""",
+    r"""
+>>> tasks = {"a": (4, 2, [(1, "failed", (1, 2)), (2, "done", (1, 2))]), "b": (1, 3, [(1, "done", (3, 4)), (3, "failed", (1, 4))]), "c": (2, None, [(1, "done", (1, 1))])}
+>>> plan = ("order", [("task", "a"), ("task", "b")])
+>>> from prepaidplans.accounts import account, money_of, undone
+>>> from prepaidplans.courses import count_courses, course_of
+>>> word, tick, course = course_of(tasks, plan, {(0,): (2, "done"), (1,): (3, "failed")})
+>>> [word, tick, course, count_courses(tasks, plan)]
+['failed', 5, [((0,), 0, 2, 'done'), ((1,), 2, 5, 'failed')], 3]
+>>> [account(tasks, plan, course), money_of(tasks, plan, course), undone(tasks, plan, course)]
+[(7, 0, 0), 7, [(5, (0,))]]
+>>> course_of(tasks, ("race", plan[1]), {(0,): (2, "done"), (1,): (3, "failed")})
+('done', 2, [((0,), 0, 2, 'done'), ((1,), 0, 2, 'stopped')])
+""",
+    r"""
+>>> tasks = {"a": (4, 2, [(1, "failed", (1, 2)), (2, "done", (1, 2))]), "b": (1, 3, [(1, "done", (3, 4)), (3, "failed", (1, 4))]), "c": (2, None, [(1, "done", (1, 1))])}
+>>> plan = ("order", [("task", "a"), ("task", "b")])
+>>> from prepaidplans.means import chance, mean_end, mean_money, mean_undos, rows_of
+>>> rows_of(tasks, plan)
+([(3, (3, 8))], [(1, (1, 2)), (5, (1, 8))], [(0, (4, 1), (0, 1)), (2, (3, 2), (0, 1)), (3, (9, 8), (0, 1))], [(3, (15, 8), (0, 1))])
+>>> [chance(tasks, plan), mean_money(tasks, plan), mean_end(tasks, plan), mean_undos(tasks, plan)]
+[(3, 8), (19, 4), (9, 4), {'a': (1, 8), 'b': (0, 1)}]
+""",
+]
+
+
+class ExamplesTest(unittest.TestCase):
+    def test_examples(self):
+        for number, text in enumerate(EXAMPLES):
+            test = doctest.DocTestParser().get_doctest(text, {}, f"example {number}", None, 0)
+            told = []
+            failed, tried = doctest.DocTestRunner().run(test, out=told.append)
+            self.assertGreater(tried, 1)
+            self.assertEqual(failed, 0, "".join(told))
+
+    def test_example_that_raises(self):
+        with self.assertRaises(InvalidText) as caught:
+            parse_plan({"a": (1, 1, [(1, "done", (1, 1))])}, "order ( a d )")
+        self.assertEqual(caught.exception.index, 3)
+
+
+if __name__ == "__main__":
+    unittest.main()
