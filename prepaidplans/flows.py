@@ -41,6 +41,16 @@ class Flow:
         return [sum(paid) - sum(returned) for paid, returned in zip(self.paid, self.returned)]
 
 
+def measure_of_money(tasks):
+    """Return the measure of the money."""
+    return Measure({name: tasks[name][0] for name in tasks}, {name: tasks[name][1] or 0 for name in tasks}, True)
+
+
+def measure_of_lost(tasks):
+    """Return the measure of lost: only what cannot be undone counts, once each."""
+    return Measure({}, {name: 1 for name in tasks if tasks[name][1] is None}, False)
+
+
 def flow_of(tasks, plan, measures):
     """Return the flow of a plan over shares, with these measures."""
     tasks_flows = {name: _task_flow(tasks[name], name, measures) for name in tasks}

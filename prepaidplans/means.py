@@ -2,7 +2,7 @@
 
 from prepaidplans.checks import is_whole
 from prepaidplans.errors import InvalidWeights
-from prepaidplans.flows import Measure, flow_of
+from prepaidplans.flows import Measure, flow_of, measure_of_lost, measure_of_money
 from prepaidplans.plans import check_plan, names_in
 from prepaidplans.rows import fraction
 from prepaidplans.tallies import at_tick
@@ -12,7 +12,7 @@ from prepaidplans.tasks import is_known
 def rows_of(tasks, plan):
     """Return the tuple (done, failed, paid, returned) of the rows of a plan."""
     check_plan(tasks, plan)
-    flow = flow_of(tasks, plan, [_money(tasks), _lost(tasks)])
+    flow = flow_of(tasks, plan, [measure_of_money(tasks), measure_of_lost(tasks)])
     done = _shares(flow.done, flow.bottom)
     failed = _shares(flow.failed, flow.bottom)
     return (done, failed, _amounts(flow.paid, flow.bottom), _amounts(flow.returned, flow.bottom))
@@ -36,13 +36,13 @@ def mean_end(tasks, plan):
 def mean_money(tasks, plan):
     """Return the mean of the money."""
     check_plan(tasks, plan)
-    return _means(tasks, plan, [_money(tasks)])[0]
+    return _means(tasks, plan, [measure_of_money(tasks)])[0]
 
 
 def mean_lost(tasks, plan):
     """Return the mean number of tasks that are lost."""
     check_plan(tasks, plan)
-    return _means(tasks, plan, [_lost(tasks)])[0]
+    return _means(tasks, plan, [measure_of_lost(tasks)])[0]
 
 
 def mean_begins(tasks, plan):
@@ -67,14 +67,6 @@ def measured(tasks, plan, weights):
     begins = {name: weights[name][0] for name in weights}
     undos = {name: weights[name][1] for name in weights}
     return _means(tasks, plan, [Measure(begins, undos, False)])[0]
-
-
-def _money(tasks):
-    return Measure({name: tasks[name][0] for name in tasks}, {name: tasks[name][1] or 0 for name in tasks}, True)
-
-
-def _lost(tasks):
-    return Measure({}, {name: 1 for name in tasks if tasks[name][1] is None}, False)
 
 
 def _means(tasks, plan, measures):

@@ -80,6 +80,11 @@ def span(tasks, plan):
 def check_plan(tasks, plan):
     """Raise the error of tasks, or of a plan that is none or is too large."""
     check_form(tasks, plan)
+    check_size(tasks, plan)
+
+
+def check_size(tasks, plan):
+    """Raise TooLarge if a plan is too large."""
     for number in (_size(plan), _span(tasks, plan)):
         if number > MOST_SIZE:
             raise TooLarge(number)

@@ -1,4 +1,4 @@
-"""Tests of the examples of the document, as they stand there: [21], [23], [24], [25], [29], and of [34] those of means."""
+"""Tests of the examples of the document, as they stand there: [21], [23], [24], [25], [29], [34], [35], [40]."""
 
 import doctest
 import unittest
@@ -48,6 +48,26 @@ EXAMPLES = [
 ([(3, (3, 8))], [(1, (1, 2)), (5, (1, 8))], [(0, (4, 1), (0, 1)), (2, (3, 2), (0, 1)), (3, (9, 8), (0, 1))], [(3, (15, 8), (0, 1))])
 >>> [chance(tasks, plan), mean_money(tasks, plan), mean_end(tasks, plan), mean_undos(tasks, plan)]
 [(3, 8), (19, 4), (9, 4), {'a': (1, 8), 'b': (0, 1)}]
+>>> from prepaidplans.contexts import are_alike, in_context, parting
+>>> [are_alike(tasks, plan, ("order", [plan, ("order", [])])), parting(tasks, plan, ("order", plan[1][::-1])), in_context(tasks, plan, "undone", 2)]
+[True, ('money', 0, (4, 1), (1, 1)), (11, 2)]
+""",
+    r"""
+>>> tasks = {"a": (4, 2, [(1, "failed", (1, 2)), (2, "done", (1, 2))]), "b": (1, 3, [(1, "done", (3, 4)), (3, "failed", (1, 4))]), "c": (2, None, [(1, "done", (1, 1))])}
+>>> from prepaidplans.orders import best_order, count_best_orders, price
+>>> parts = [("task", "c"), ("task", "b"), ("task", "a")]
+>>> [price(tasks, parts[2]), price(tasks, parts[1]), best_order(tasks, parts), count_best_orders(tasks, parts)]
+[((0, 1), (5, 1), (1, 2)), ((0, 1), (13, 4), (1, 4)), [2, 1, 0], 1]
+>>> from prepaidplans.arrows import best_with_arrows, blocks, woven
+>>> parts = parts[1:]
+>>> [blocks(tasks, parts), blocks(tasks, parts[::-1]), best_with_arrows(tasks, parts, [(0, 1)]), woven(tasks, [parts[:1], parts[1:]])]
+[[(0, 1)], [(0, 0), (1, 1)], [0, 1], [(1, 0), (0, 0)]]
+""",
+    r"""
+>>> tasks = {"d": (1, 9, [(1, "done", (1, 2)), (1, "failed", (1, 2))]), "e": (3, 0, [(1, "done", (1, 2)), (1, "failed", (1, 2))])}
+>>> from prepaidplans.ways import best_ways, ranges
+>>> [ranges(tasks, [("task", "d"), ("task", "e")]), best_ways(tasks, [("task", "d"), ("task", "e")], (1, 2))]
+[[((0, 1), (4, 9), [0, 1]), ((4, 9), (1, 1), [1, 0])], [1, 0]]
 """,
 ]
 

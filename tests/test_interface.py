@@ -33,6 +33,20 @@ FUNCTIONS = {
         "mean_lost": "tasks plan", "mean_begins": "tasks plan", "mean_undos": "tasks plan",
         "measured": "tasks plan weights",
     },
+    "contexts": {
+        "in_context": "tasks plan kind tick", "are_alike": "tasks plan other", "parting": "tasks plan other",
+    },
+    "orders": {
+        "price": "tasks plan", "best_order": "tasks parts", "is_best_order": "tasks parts value",
+        "count_best_orders": "tasks parts",
+    },
+    "arrows": {
+        "best_with_arrows": "tasks parts arrows", "is_best_with_arrows": "tasks parts arrows value",
+        "blocks": "tasks parts", "woven": "tasks chains", "is_best_weaving": "tasks chains value",
+    },
+    "ways": {
+        "best_ways": "tasks parts fails", "is_best_ways": "tasks parts fails value", "ranges": "tasks parts",
+    },
 }
 
 METHODS = {"moved": "self ticks", "cut": "self tick", "at": "self tick", "up_to": "self tick", "total": "self",

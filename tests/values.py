@@ -1,7 +1,7 @@
 """Values and checks that several tests share; no tests themselves."""
 
 from oracle import paths_of
-from prepaidplans.errors import InvalidPlan, InvalidTasks, TooLarge
+from prepaidplans.errors import InvalidParts, InvalidPlan, InvalidTasks, TooLarge
 
 
 class Odd:
@@ -91,4 +91,27 @@ def check_first_errors(test, call):
     for plan, number in [(SIZE_401, 401), (SPAN_401, 401), (SIZE_421_AND_SPAN, 421)]:
         with test.assertRaises(TooLarge, msg=repr(plan)) as caught:
             call(large_tasks(), plan)
+        test.assertEqual(caught.exception.number, number)
+
+
+def check_part_errors(test, call):
+    """Test that call(tasks, parts) raises the errors of tasks and of parts, in their order, ahead of all others."""
+    wrong = {"b": 1, "a": (1, 1, [(1, "done", (1, 1))]), "c": None}
+    for tasks, name in [(None, None), ({}, None), (wrong, "b")]:
+        for parts in ([A], None, [SIZE_401], [None], [A] * 13):
+            with test.assertRaises(InvalidTasks, msg=repr(tasks)) as caught:
+                call(tasks, parts)
+            test.assertEqual(caught.exception.name, name)
+    values = [(value, None) for value in ANYTHING if not isinstance(value, list)]
+    values += [([A] * 13, None), ([None] * 13, None), ((A, B), None), (A, None), ({0: A}, None), ("ab", None)]
+    values += [([value], 0) for value in ANYTHING] + [([A, B, A, value, None], 3) for value in ANYTHING]
+    values += [([A, B, ("task", "x")], 2), ([A, ("later", True, A), 1], 1), ([[A]], 0), ([SIZE_401, A, ("order", (A,))], 2)]
+    values += [([SPAN_401, ("task", "c")], 1), ([A] * 11 + [("keep", [])], 11)]
+    for parts, index in values:
+        with test.assertRaises(InvalidParts, msg=repr(parts)) as caught:
+            call(large_tasks(), parts)
+        test.assertEqual(caught.exception.index, index, repr(parts))
+    for parts, number in [([SIZE_401], 401), ([A, SPAN_401], 401), ([A, SIZE_421_AND_SPAN, SIZE_401], 421)]:
+        with test.assertRaises(TooLarge, msg=repr(parts)) as caught:
+            call(large_tasks(), parts)
         test.assertEqual(caught.exception.number, number)
