@@ -6,8 +6,7 @@ from prepaidplans.courses import run_with
 def account(tasks, plan, course):
     """Return the tuple (paid, returned, lost) of a course."""
     book = _book_of(tasks, plan, course)
-    lost = len([undo for _, _, _, undo in book.undoings if undo is None])
-    return (book.paid, book.returned, lost)
+    return (book.paid, book.returned, book.count_lost())
 
 
 def money_of(tasks, plan, course):
@@ -55,8 +54,8 @@ class Book:
             self.keep(self.settle(side))
         if run.plan[0] == "task":
             things = self.settle_task(run)
-        if run.word != "done":
-            self.undo(things, run.end)
+        if run.how != "done":
+            self.undo(things, run.ended)
             return []
         if run.plan[0] == "keep":
             self.keep(things)
@@ -64,7 +63,7 @@ class Book:
         if run.plan[0] == "back":
             self.give_back(things)
             self.paid += run.plan[1]
-            return [(run.end, run.path, run.plan[1])]
+            return [(run.ended, run.path, run.plan[1])]
         return things
 
     def settle_parts(self, run):
@@ -74,20 +73,20 @@ class Book:
         for part in run.parts:
             inner = self.settle(part)
             if lost:
-                self.undo(inner, run.end)
+                self.undo(inner, run.ended)
             else:
                 things.extend(inner)
-            lost = lost or (run.plan[0] == "race" and part.word == "done")
+            lost = lost or (run.plan[0] == "race" and part.how == "done")
         return things
 
     def settle_task(self, run):
         """Return the list of the task, if it is done, with what it costs paid."""
         cost, undo, _ = self.tasks[run.plan[1]]
         self.paid += cost
-        if run.word != "done":
+        if run.how != "done":
             return []
         self.paid += undo or 0
-        return [(run.end, run.path, undo)]
+        return [(run.ended, run.path, undo)]
 
     def undo(self, things, tick):
         """Undo things at this tick."""
@@ -101,6 +100,10 @@ class Book:
     def give_back(self, things):
         """Return what was paid for undoing these things."""
         self.returned += sum([undo or 0 for _, _, undo in things])
+
+    def count_lost(self):
+        """Return how many tasks are lost."""
+        return len([undo for _, _, _, undo in self.undoings if undo is None])
 
 
 def _book_of(tasks, plan, course):

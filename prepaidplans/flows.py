@@ -4,13 +4,12 @@ One algebra serves two ends. Over shares a flow tells chances and means. Over co
 tells how many courses there are; then every bottom is 1, and nothing is measured.
 """
 
-from math import lcm
+from math import gcd, lcm
 
-from prepaidplans.plans import steps_of
+from prepaidplans.plans import named_paths, steps_of
 from prepaidplans.tallies import (
     added, at_tick, follow, moved, product_of, products_beside, running, scaled, steps, taken,
 )
-from prepaidplans.tasks import last_tick
 
 
 class Measure:
@@ -40,6 +39,10 @@ class Flow:
         """Return for each measure what is paid in all, less what is returned in all, over the bottom."""
         return [sum(paid) - sum(returned) for paid, returned in zip(self.paid, self.returned)]
 
+    def all_ends(self):
+        """Return the sum of the ticks at which the runs end, over the bottom."""
+        return sum([tick * number for tick, number in enumerate(added(self.done, self.failed))])
+
 
 def measure_of_money(tasks):
     """Return the measure of the money."""
@@ -51,67 +54,101 @@ def measure_of_lost(tasks):
     return Measure({}, {name: 1 for name in tasks if tasks[name][1] is None}, False)
 
 
+class Leaves:
+    """The flows of tasks: by their names, and of some by their paths; and for each measure whether backs count."""
+
+    def __init__(self, named, placed, backs):
+        self.named = named
+        self.placed = placed
+        self.backs = backs
+
+    def flow_at(self, path, name):
+        """Return the flow of the task at this path."""
+        return self.placed[path] if path in self.placed else self.named[name]
+
+    def placed_tries(self, path):
+        """Return how many tries of the again at this path have tasks of their own flows in them, or behind them."""
+        level = len(path)
+        return max([place[level] + 1 for place in self.placed if place[:level] == path], default=0)
+
+
 def flow_of(tasks, plan, measures):
     """Return the flow of a plan over shares, with these measures."""
-    tasks_flows = {name: _task_flow(tasks[name], name, measures) for name in tasks}
-    return _flow(plan, tasks_flows, [measure.backs for measure in measures])
+    return flow_with(tasks, plan, measures, {})
+
+
+def flow_with(tasks, plan, measures, ends):
+    """Return the flow of a plan in which the tasks at some paths have these of their ends only."""
+    named = {name: _task_flow(tasks[name][2], name, measures) for name in tasks}
+    placed = {path: _task_flow(ends[path], name, measures) for path, name in named_paths(plan) if path in ends}
+    return _flow(plan, (), Leaves(named, placed, [measure.backs for measure in measures]))
 
 
 def count_runs(tasks, plan):
     """Return how many courses a plan has."""
-    flow = _flow(plan, {name: _task_count(tasks[name]) for name in tasks}, [])
+    flow = _flow(plan, (), Leaves({name: _task_count(tasks[name][2]) for name in tasks}, {}, []))
     return sum(flow.done) + sum(flow.failed)
 
 
-def _task_flow(task, name, measures):
-    bottom = 1
-    for _, _, share in task[2]:
-        bottom = lcm(bottom, share[1])
-    weights = [top * (bottom // part) for _, _, (top, part) in task[2]]
-    done = _tally_of(task, "done", weights)
-    failed = _tally_of(task, "failed", weights)
-    going = [bottom - ended for ended in running(added(done, failed), last_tick(task))]
+def _task_flow(ends, name, measures):
+    least = 1
+    for _, _, share in ends:
+        least = lcm(least, share[1])
+    weights = _in_lowest_terms([top * (least // part) for _, _, (top, part) in ends])
+    # This is not the least common bottom where some ends are missing: the others make up all runs.
+    bottom = sum(weights)
+    done = _tally_of(ends, "done", weights)
+    failed = _tally_of(ends, "failed", weights)
+    going = [bottom - ended for ended in running(added(done, failed), ends[-1][0])]
     returned = [scaled(done, measure.undos.get(name, 0)) for measure in measures]
     paid = [added([measure.costs.get(name, 0) * bottom], row) for measure, row in zip(measures, returned)]
     return Flow(bottom, done, failed, going, paid, returned)
 
 
-def _task_count(task):
+def _task_count(ends):
     # A task that is stopped is so in one way only, however it could have ended.
-    weights = [1] * len(task[2])
-    return Flow(1, _tally_of(task, "done", weights), _tally_of(task, "failed", weights), [1] * last_tick(task), [], [])
+    weights = [1] * len(ends)
+    return Flow(1, _tally_of(ends, "done", weights), _tally_of(ends, "failed", weights), [1] * ends[-1][0], [], [])
 
 
-def _tally_of(task, word, weights):
-    tally = [0] * (last_tick(task) + 1)
-    for (tick, how, _), weight in zip(task[2], weights):
+def _in_lowest_terms(weights):
+    divisor = 0
+    for weight in weights:
+        divisor = gcd(divisor, weight)
+    return [weight // divisor for weight in weights]
+
+
+def _tally_of(ends, word, weights):
+    tally = [0] * (ends[-1][0] + 1)
+    for (tick, how, _), weight in zip(ends, weights):
         if how == word:
             tally[tick] = weight
     return tally
 
 
-def _flow(plan, leaves, backs):
+def _flow(plan, path, leaves):
     word = plan[0]
+    many = len(leaves.backs)
     if word == "task":
-        return leaves[plan[1]]
-    parts = [_flow(part, leaves, backs) for _, part in steps_of(plan)]
+        return leaves.flow_at(path, plan[1])
+    if word == "again":
+        return _tried(plan, path, leaves)
+    parts = [_flow(part, path + step, leaves) for step, part in steps_of(plan)]
     if word == "order":
-        return _order(parts, len(backs))
+        return _order(parts, many)
     if word == "other":
-        return _other(parts, len(backs))
+        return _other(parts, many)
     if word == "both":
-        return _both(parts, len(backs))
+        return _both(parts, many)
     if word == "race":
-        return _race(parts, len(backs))
+        return _race(parts, many)
     if word == "watch":
         return _watched(parts[1], parts[0], plan[1])
-    return _around(plan, parts[0], backs)
+    return _around(plan, parts[0], leaves.backs)
 
 
 def _around(plan, part, backs):
     word = plan[0]
-    if word == "again":
-        return _again(part, plan[1], plan[2])
     if word == "within":
         return _within(part, plan[1])
     if word == "later":
@@ -121,6 +158,16 @@ def _around(plan, part, backs):
     if word == "back":
         return _covered(part, [plan[1] if counts else 0 for counts in backs])
     return Flow(part.bottom, added(part.done, part.failed), [], part.going, part.paid, part.returned)
+
+
+def _tried(plan, path, leaves):
+    _, tries, wait, part = plan
+    first = leaves.placed_tries(path)
+    parts = [_flow(part, path + (index,), leaves) for index in range(first)]
+    if first < tries:
+        # The other tries are all alike.
+        parts.append(_again(_flow(part, path + (first,), leaves), tries - first, wait))
+    return _other(parts[:1] + [_later(one, wait) for one in parts[1:]], len(leaves.backs))
 
 
 def _order(parts, many):

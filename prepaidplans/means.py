@@ -29,8 +29,7 @@ def mean_end(tasks, plan):
     """Return the mean tick at which the plan ends."""
     check_plan(tasks, plan)
     flow = flow_of(tasks, plan, [])
-    ticks = [tick * number for row in (flow.done, flow.failed) for tick, number in enumerate(row)]
-    return fraction(sum(ticks), flow.bottom)
+    return fraction(flow.all_ends(), flow.bottom)
 
 
 def mean_money(tasks, plan):

@@ -125,6 +125,15 @@ def named_paths(plan):
     return [(step + path, name) for step, part in all_steps_of(plan) for path, name in named_paths(part)]
 
 
+def copied_plan(value):
+    """Return a plan that has nothing in common with a plan that could be changed."""
+    if isinstance(value, tuple):
+        return tuple([copied_plan(one) for one in value])
+    if isinstance(value, list):
+        return [copied_plan(one) for one in value]
+    return value
+
+
 def is_path(value):
     """Return whether any value has the form of a path."""
     return isinstance(value, tuple) and all([is_whole(index) for index in value])

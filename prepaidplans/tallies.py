@@ -54,6 +54,11 @@ def steps(sums):
     return taken(sums, moved(sums[:-1], 1))
 
 
+def sum_of_products(one, other):
+    """Return the sum over all ticks of the product of the numbers of both tallies at it."""
+    return sum([number * factor for number, factor in zip(one, other)])
+
+
 def product_of(tallies, ticks):
     """Return for each of so many ticks the product of the numbers of all tallies at it."""
     result = [1] * ticks
@@ -65,10 +70,10 @@ def product_of(tallies, ticks):
 def products_beside(ahead, behind, ticks):
     """Return for each index the product of the tallies of ahead at lower indexes and of behind at higher ones."""
     below = [[1] * ticks]
-    for tally in ahead:
+    for tally in ahead[:-1]:
         below.append(product_of([below[-1], tally], ticks))
     above = [[1] * ticks]
-    for tally in reversed(behind):
+    for tally in behind[:0:-1]:
         above.append(product_of([above[-1], tally], ticks))
     many = len(ahead)
     return [product_of([below[index], above[many - 1 - index]], ticks) for index in range(many)]

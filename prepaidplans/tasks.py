@@ -56,8 +56,12 @@ def with_task(tasks, name, task):
         raise InvalidName("this is not a name, or there are 12 other ones")
     if not is_task(task):
         raise InvalidTask("a task is a tuple (cost, undo, ends)")
-    changed = {**tasks, name: task}
-    return {one: _copied(changed[one]) for one in sorted(changed)}
+    return copied_tasks({**tasks, name: task})
+
+
+def copied_tasks(tasks):
+    """Return tasks, by ascending names, that have nothing in common with tasks that could be changed."""
+    return {name: _copied(tasks[name]) for name in sorted(tasks)}
 
 
 def check_tasks(tasks):

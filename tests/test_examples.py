@@ -1,4 +1,5 @@
-"""Tests of the examples of the document, as they stand there: [21], [23], [24], [25], [29], [34], [35], [40]."""
+"""Tests of the examples of the document, as they stand there: [21], [23], [24], [25], [29], [34], [35], [40],
+[42], [44], [46], [49]."""
 
 import doctest
 import unittest
@@ -68,6 +69,40 @@ EXAMPLES = [
 >>> from prepaidplans.ways import best_ways, ranges
 >>> [ranges(tasks, [("task", "d"), ("task", "e")]), best_ways(tasks, [("task", "d"), ("task", "e")], (1, 2))]
 [[((0, 1), (4, 9), [0, 1]), ((4, 9), (1, 1), [1, 0])], [1, 0]]
+""",
+    r"""
+>>> tasks = {"a": (4, 2, [(1, "failed", (1, 2)), (2, "done", (1, 2))]), "b": (1, 3, [(1, "done", (3, 4)), (3, "failed", (1, 4))]), "c": (2, None, [(1, "done", (1, 1))])}
+>>> from prepaidplans.halves import apart_pairs, fewest_changes, half_course, needed_undos
+>>> plan = ("order", [("task", "c"), ("task", "a")])
+>>> [half_course(tasks, plan), needed_undos(tasks, plan), fewest_changes(tasks, ["c", "a", "c"]), apart_pairs(tasks, ["c", "a", "c"])]
+[[((0,), 0, 1, 'done'), ((1,), 1, 2, 'failed')], ['c'], [(0, 'undo')], [(0, 1)]]
+""",
+    r"""
+>>> tasks = {"a": (4, 2, [(1, "failed", (1, 2)), (2, "done", (1, 2))]), "b": (1, 3, [(1, "done", (3, 4)), (3, "failed", (1, 4))]), "c": (2, None, [(1, "done", (1, 1))])}
+>>> plan = ("order", [("task", "a"), ("task", "b")])
+>>> from prepaidplans.choices import best_limit, by_limit, line_of, worth
+>>> by_limit(tasks, plan)
+[(0, (0, 1), (4, 1)), (2, (0, 1), (11, 2)), (3, (3, 8), (19, 4))]
+>>> [worth(tasks, plan, 20, 1), line_of(tasks, plan, "a", "undo"), best_limit(tasks, ("task", "b"), ("task", "c"), 10, 1)]
+[(1, 2), ((9, 2), (1, 8)), (1, (29, 4))]
+""",
+    r"""
+>>> tasks = {"a": (4, 2, [(1, "failed", (1, 2)), (2, "done", (1, 2))]), "b": (1, 3, [(1, "done", (3, 4)), (3, "failed", (1, 4))]), "c": (2, None, [(1, "done", (1, 1))])}
+>>> plan = ("order", [("task", "a"), ("task", "b")])
+>>> from prepaidplans.rest import news, rest_of
+>>> [rest_of(tasks, plan, [((0,), 0, None, "open")], 0), rest_of(tasks, plan, [((0,), 0, 2, "done"), ((1,), 2, None, "open")], 2)]
+[((3, 8), (19, 4), (0, 1), (9, 4)), ((3, 4), (11, 2), (0, 1), (7, 2))]
+>>> news(tasks, plan, [((0,), 0, None, "open")], 0)
+[((1, 2), [((0,), 0, None, 'open')]), ((1, 2), [((0,), 0, 1, 'failed')])]
+""",
+    r"""
+>>> tasks = {"a": (4, 2, [(1, "failed", (1, 2)), (2, "done", (1, 2))]), "b": (1, 3, [(1, "done", (3, 4)), (3, "failed", (1, 4))]), "c": (2, None, [(1, "done", (1, 1))])}
+>>> from prepaidplans.engine import CountingEngine
+>>> engine = CountingEngine(tasks, ("other", [("within", 1, ("task", "b")), ("task", "c")]))
+>>> [engine.running, engine.go_on(), engine.now, engine.go_on(), engine.running, engine.course]
+[[(0,)], [], 1, [(1,)], [(1,)], [((0,), 0, 1, 'stopped'), ((1,), 1, None, 'open')]]
+>>> [engine.now, engine.end((1,), "done"), engine.word, engine.begun, engine.described(), engine.undo(), engine.running]
+[2, None, 'done', {'b': 1, 'c': 1}, ['running 0', 'tick 2', 'begun 2'], None, [(1,)]]
 """,
 ]
 

@@ -47,7 +47,20 @@ FUNCTIONS = {
     "ways": {
         "best_ways": "tasks parts fails", "is_best_ways": "tasks parts fails value", "ranges": "tasks parts",
     },
+    "halves": {
+        "is_safe": "tasks plan", "half_course": "tasks plan", "needed_undos": "tasks plan",
+        "fewest_changes": "tasks names", "apart_pairs": "tasks names",
+    },
+    "choices": {
+        "worth": "tasks plan reward rate", "by_limit": "tasks plan", "best_limit": "tasks plan other reward rate",
+        "best_delay": "tasks plan other most reward rate", "line_of": "tasks plan name what",
+    },
+    "rest": {
+        "is_beginning": "tasks plan value now", "rest_of": "tasks plan beginning now", "news": "tasks plan beginning now",
+    },
 }
+
+ENGINES = ["Engine", "StrictEngine", "CountingEngine", "StrictCountingEngine"]
 
 METHODS = {"moved": "self ticks", "cut": "self tick", "at": "self tick", "up_to": "self tick", "total": "self",
            "pairs": "self", "__init__": "self pairs"}
@@ -70,6 +83,13 @@ class InterfaceTest(unittest.TestCase):
         for method, names in METHODS.items():
             self.assertEqual(list(inspect.signature(vars(rows.Row)[method]).parameters), names.split())
         self.assertEqual([name for name in OPERATORS if name not in vars(rows.Row)], [])
+
+    def test_engines(self):
+        engine = importlib.import_module("prepaidplans.engine")
+        for name in ENGINES:
+            one = getattr(engine, name)
+            self.assertEqual(one.__module__, "prepaidplans.engine")
+            self.assertEqual(list(inspect.signature(one).parameters), ["tasks", "plan"])
 
 
 if __name__ == "__main__":

@@ -15,7 +15,7 @@ LIBRARY = {
 }
 
 BUILTINS = """len range enumerate zip min max sum abs sorted reversed int str bool list tuple dict set isinstance ord
-repr any all divmod pow map iter next ValueError TypeError KeyError IndexError LookupError ZeroDivisionError
+repr any all divmod pow map iter next type ValueError TypeError KeyError IndexError LookupError ZeroDivisionError
 NotImplemented super property staticmethod classmethod""".split()
 
 DUNDERS = """__init__ __eq__ __repr__ __str__ __len__ __lt__ __le__ __gt__ __ge__ __ne__ __add__ __sub__ __mul__
