@@ -80,10 +80,11 @@ def _needs_of(tasks, parts, arrows):
 def _is_arrow(value, many):
     if not isinstance(value, tuple) or len(value) != 2:
         return False
-    return all([is_between(index, 0, many - 1) for index in value]) and value[0] != value[1]
+    return all([is_between(index, 0, many - 1) for index in value])
 
 
 def _leads_round(needs):
+    # This tells arrows from a part to itself, too.
     begun = 0
     for _ in needs:
         free = _free(needs, begun)

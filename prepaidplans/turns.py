@@ -7,7 +7,7 @@ costs less for each unit of this chance, whatever else is in the row.
 
 from math import factorial, gcd, perm
 
-from prepaidplans.checks import is_between
+from prepaidplans.checks import is_whole
 
 
 class Turn:
@@ -61,7 +61,7 @@ def ranks_of(turns):
 
 def is_order(value, many):
     """Return whether any value is a list of the indexes below many, each once."""
-    if not isinstance(value, list) or not all([is_between(index, 0, many - 1) for index in value]):
+    if not isinstance(value, list) or not all([is_whole(index) for index in value]):
         return False
     return sorted(value) == list(range(many))
 

@@ -71,25 +71,26 @@ def _ways_of(tasks, parts):
 
 
 def _turning_points(ways):
-    """Return the ascending list of the shares between 0 and 1 at which one of two ways becomes the cheaper one."""
+    """Return the ascending list of the shares between 0 and 1 at which one of two ways can become the cheaper one."""
     points = []
     for index, one in enumerate(ways):
         for other in ways[:index]:
-            point = _turning_point(one, other)
-            if point is not None and is_less(NONE, point) and is_less(point, ALL) and point not in points:
-                points.append(point)
+            for point in _crossings(one, other):
+                if is_less(NONE, point) and is_less(point, ALL) and point not in points:
+                    points.append(point)
     return _ascending(points)
 
 
-def _turning_point(one, other):
-    """Return the share at which one of two ways becomes the cheaper one, or None."""
+def _crossings(one, other):
+    """Return the list of the numbers at which two ways cost the same of lost, or of money, for their chances."""
+    found = []
     for mean, stands, mean_there, stands_there in zip(one.means, one.stands, other.means, other.stands):
         # How much dearer the one is, for its chance, is a line: this at 0, and so much more at 1.
         begin = mean * other.chance - mean_there * one.chance
         slope = stands * other.chance - stands_there * one.chance
-        if begin != 0 or slope != 0:
-            return fraction(-begin, slope) if slope != 0 else None
-    return None
+        if slope != 0:
+            found.append(fraction(-begin, slope))
+    return found
 
 
 def _ascending(points):

@@ -251,6 +251,9 @@ class WeavingTest(unittest.TestCase):
 
     def test_any_value(self):
         chains = [[task("a"), task("a")], [task("b")]]
+        free = [[task("f")], [task("f")]]
+        self.assertIs(is_best_weaving(TASKS, free, [(0, 0)]), False)
+        self.assertIs(is_best_weaving(TASKS, free, [(1, 0), (0, 0)]), True)
         right = [[(0, 0), (0, 1), (1, 0)], [(0, 0), (1, 0), (0, 1)], [(1, 0), (0, 0), (0, 1)]]
         for value in right:
             self.assertIs(is_best_weaving(TASKS, chains, value), True)

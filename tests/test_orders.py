@@ -100,6 +100,14 @@ class BestOrderTest(unittest.TestCase):
         self.assertEqual(best_order(TASKS, [task("h"), idle, task("a"), idle]), [1, 2, 0, 3])
         self.assertEqual(count_best_orders(TASKS, [idle] * 12), math.factorial(12))
 
+    def test_sure_ones_that_are_lost_or_cost_come_last(self):
+        tasks = {"a": TASKS["a"], "m": (0, None, [(1, "done", (1, 1))]), "k": TASKS["k"]}
+        for last in "mk":
+            parts = [task(last), task("a"), ("order", [])]
+            self.assertEqual((best_order(tasks, parts), count_best_orders(tasks, parts)), ([1, 0, 2], 3))
+            self.assertFalse(is_best_order(tasks, parts, [0, 1, 2]))
+        self.assertEqual(count_best_orders(tasks, [task("m"), task("k"), task("a")]), 2)
+
     def test_behind_one_that_is_never_done_nothing_matters(self):
         # For c and k nothing is saved by being ahead of the others: they come behind "i".
         parts = [task("k"), task("c"), task("i"), task("h"), task("l")]

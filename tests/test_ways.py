@@ -151,6 +151,22 @@ class RangesTest(unittest.TestCase):
                     best = cheapest(parts, lambda other: ways_cost(parts, other, pair(fails)))
                     self.assertEqual(order, best[0], (parts, fails))
 
+    def test_turns_that_change_nothing(self):
+        # Behind a sure way that is cheaper, it does not matter which of two others is: at 4 / 9 they turn.
+        tasks = {**EXAMPLE, "s": (0, 0, [(1, "done", (1, 1))]), "t": (6, 0, [(1, "done", (1, 1))])}
+        self.assertEqual(ranges(tasks, [task("s"), D, E]), [((0, 1), (1, 1), [0, 1, 2])])
+        self.assertEqual(ranges(tasks, [E, task("s"), D]), [((0, 1), (1, 1), [1, 0, 2])])
+        # d costs as much as t for its chance at 4 / 9 too, e at all shares: only behind d that matters nothing.
+        self.assertEqual(ranges(tasks, [task("t"), D, E]), [((0, 1), (4, 9), [1, 0, 2]), ((4, 9), (1, 1), [0, 1, 2])])
+        tasks["x"] = (4, 0, EXAMPLE["d"][2])
+        self.assertEqual(ranges(tasks, [task("t"), D, task("x")]),
+                         [((0, 1), (4, 9), [1, 0, 2]), ((4, 9), (1, 1), [0, 1, 2])])
+        # u is cheaper than d from 1 / 3 on, t than d from 4 / 9 on, and than u from 2 / 3 on.
+        tasks["u"] = (2, 3, EXAMPLE["d"][2])
+        found = ranges(tasks, [D, E, task("u"), task("t")])
+        self.check_form(found)
+        self.assertEqual([order for _, _, order in found], [[0, 2, 1, 3], [2, 0, 1, 3], [2, 1, 3, 0], [1, 3, 0, 2]])
+
     def test_every_turn_of_two_is_found(self):
         for parts in itertools.combinations(PARTS, 2):
             one, other = [facts_of(part) for part in parts]
