@@ -100,9 +100,14 @@ def line_of(tasks, plan, name, what):
     if what == "undo" and tasks[name][1] is None:
         raise InvalidName("the task cannot be undone")
     cost, undo, ends = tasks[name]
-    free = (0, undo, ends) if what == "cost" else (cost, 0, ends)
-    counts = Measure({name: 1}, {}, False) if what == "cost" else Measure({}, {name: 1}, False)
-    flow = flow_of(tasks, plan, [measure_of_money({**tasks, name: free}), counts])
+    if what == "cost":
+        free = (0, undo, ends)
+        each = Measure({name: 1}, {}, False)
+    else:
+        free = (cost, 0, ends)
+        each = Measure({}, {name: 1}, False)
+    # Money is a sum: what it is with 0 there, and x for each time that the task begins, or is undone.
+    flow = flow_of(tasks, plan, [measure_of_money({**tasks, name: free}), each])
     begin, slope = flow.all_paid()
     return (fraction(begin, flow.bottom), fraction(slope, flow.bottom))
 
@@ -123,9 +128,9 @@ def _worth_of(flow, reward, rate):
 
 def _worths_of_races(one, two, most, reward, rate):
     """Return for each delay of the second plan the worth of the race of both, over the product of their bottoms."""
-    # Each of them pays as long as the other one is not done ahead of the tick. The first one is the winner also if both
-    # are done at once; the second one if the first one is not done ahead of the next tick. And each tick costs the
-    # rate, but for tick 0, if ahead of it none is done and not both have failed.
+    # Each one pays at a tick if the other one is not done ahead of it. The first one wins, and what stands in it is
+    # returned, also if both are done at once; the second one only if the first one is not done ahead of the next tick.
+    # And each tick but 0 costs the rate if none is done ahead of it and not both have failed.
     mine = added(taken(one.paid, one.returned), scaled(one.waiting, rate))
     theirs = taken(two.paid, moved(two.returned, 1))
     chance = one.bottom * two.bottom - one.failed[-1] * two.failed[-1]

@@ -38,8 +38,9 @@ def needed_undos(tasks, plan):
 def fewest_changes(tasks, names):
     """Return the least one of the shortest lists of changes behind which a row of tasks has no bad pair."""
     fixed, unsure = _bad_ends(tasks, names)
-    # The first task that is left as it cannot be undone asks for those ahead of it, and for all behind it that can
-    # fail; then there is no bad pair. So there are no other lists than these that have nothing in vain.
+    # If a task is the first one that still cannot be undone, those ahead of it have changed, and all behind it that
+    # can fail; and that is enough. So each list without a change in vain is one of these; the last one changes all
+    # that cannot be undone.
     lists = [_changes(fixed, unsure, first) for first in fixed + [len(names)]]
     return min(lists, key=lambda changes: (len(changes), changes))
 
